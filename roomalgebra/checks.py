@@ -1,6 +1,6 @@
 """What every module asks of letters, words and numbers before it works with them."""
 
-from roomalgebra.errors import NoLetters, NoWord
+from roomalgebra.errors import NoLetters, NoWord, OtherLetters
 
 
 # Python counts True and False among the ints; the document does not count them among the numbers.
@@ -26,3 +26,11 @@ def need_word(letters, word):
     for sign in word:
         if sign not in letters:
             raise NoWord(f"{sign!r} is none of the letters {letters}")
+
+
+# The same letters in another order are other letters: the rows of ways would not lead by the same signs.
+def need_same_letters(machine, second):
+    letters = machine[0]
+    others = second[0]
+    if letters != others:
+        raise OtherLetters(f"one machine has the letters {letters}, the other one {others}")

@@ -15,8 +15,7 @@ def made(letters, ways, marks):
 def room_after(machine, room, word):
     letters = machine[0]
     ways = machine[1]
-    if not is_room(room, len(ways)):
-        raise NoRoom("no room of the machine has that number")
+    need_room(machine, room)
     need_word(letters, word)
     here = room
     for sign in word:
@@ -32,6 +31,11 @@ def takes(machine, word):
 # A number below 0 must not pass: Python would count it from the last room.
 def is_room(number, many):
     return is_whole(number) and 0 <= number < many
+
+
+def need_room(machine, number):
+    if not is_room(number, len(machine[1])):
+        raise NoRoom("no room of the machine has that number")
 
 
 def need_marks(ways, marks):

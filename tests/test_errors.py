@@ -1,39 +1,35 @@
-"""The refusals: their classes and their fields (points 2, 5 to 9 and the interface)."""
+"""The refusals: their classes and their fields (points 2, 5 to 9, 11, 13 to 15, 19, 21 and the interface)."""
 
 import unittest
 
+from helper import REFUSALS, classes_of, in_a_row, refusal_of
 from roomalgebra import errors
+from roomalgebra.joins import again, both, either, less, outside, then, turned
+from roomalgebra.least import apart, parting
 from roomalgebra.machines import made, room_after, takes
+from roomalgebra.patterns import Never
+from roomalgebra.reader import read
 from roomalgebra.words import earlier, next_word, number_of, word_of
 
-PLAIN = ["NoLetters", "NoWord", "NoNumber", "NoRoom", "NoMachine", "OtherLetters", "NoKind"]
-WITH_FIELDS = ["TooMany", "NoPattern", "TooGreat"]
 LOOP = made("ab", [[0, 0]], [True])
-
-
-def refusal_of(call):
-    try:
-        call()
-    except errors.RoomError as refusal:
-        return refusal
-    return None
+OTHER = made("ba", [[0, 0]], [True])
 
 
 class Classes(unittest.TestCase):
     def test_each_stands_straight_under_room_error(self):
         self.assertEqual(errors.RoomError.__bases__, (ValueError,))
-        for name in PLAIN + WITH_FIELDS:
+        for name in REFUSALS:
             self.assertEqual(getattr(errors, name).__bases__, (errors.RoomError,), name)
 
     def test_none_is_under_another(self):
-        for name in PLAIN + WITH_FIELDS:
-            for other in PLAIN + WITH_FIELDS:
+        for name in REFUSALS:
+            for other in REFUSALS:
                 under = issubclass(getattr(errors, name), getattr(errors, other))
                 self.assertEqual(under, name == other, (name, other))
 
     def test_there_are_ten_classes_besides_room_error(self):
-        under = [thing for thing in vars(errors).values() if isinstance(thing, type)]
-        self.assertEqual(len(under), 11)
+        names = [name for name, thing in vars(errors).items() if isinstance(thing, type)]
+        self.assertEqual(sorted(names), sorted(REFUSALS + ["RoomError"]))
 
 
 class Fields(unittest.TestCase):
@@ -70,8 +66,7 @@ class EachRefusalIsOfItsOwnClass(unittest.TestCase):
         refusal = refusal_of(call)
         self.assertIsInstance(refusal, errors.RoomError)
         self.assertIsInstance(refusal, ValueError)
-        held = [other for other in PLAIN + WITH_FIELDS if isinstance(refusal, getattr(errors, other))]
-        self.assertEqual(held, [name])
+        self.assertEqual(classes_of(refusal), [name])
 
     def test_no_letters(self):
         self.refused_with("NoLetters", lambda: earlier("", "", ""))
@@ -79,6 +74,8 @@ class EachRefusalIsOfItsOwnClass(unittest.TestCase):
         self.refused_with("NoLetters", lambda: word_of("abcd", 1))
         self.refused_with("NoLetters", lambda: next_word("A", ""))
         self.refused_with("NoLetters", lambda: made("", [[0]], [True]))
+        self.refused_with("NoLetters", lambda: read("abb", "a"))
+        self.refused_with("NoLetters", lambda: Never().machine(""))
 
     def test_no_word(self):
         self.refused_with("NoWord", lambda: earlier("ab", "c", ""))
@@ -95,10 +92,36 @@ class EachRefusalIsOfItsOwnClass(unittest.TestCase):
     def test_no_room(self):
         self.refused_with("NoRoom", lambda: room_after(LOOP, 1, ""))
         self.refused_with("NoRoom", lambda: room_after(LOOP, -1, ""))
+        self.refused_with("NoRoom", lambda: parting(LOOP, 0, 1))
+        self.refused_with("NoRoom", lambda: parting(LOOP, -1, 0))
 
     def test_no_machine(self):
         self.refused_with("NoMachine", lambda: made("a", [], []))
         self.refused_with("NoMachine", lambda: made("a", [[1]], [True]))
+
+    def test_other_letters(self):
+        self.refused_with("OtherLetters", lambda: apart(LOOP, OTHER))
+        self.refused_with("OtherLetters", lambda: either(LOOP, OTHER))
+        self.refused_with("OtherLetters", lambda: both(LOOP, OTHER))
+        self.refused_with("OtherLetters", lambda: less(LOOP, OTHER))
+        self.refused_with("OtherLetters", lambda: then(LOOP, OTHER))
+
+    def test_too_many(self):
+        seven = made("a", [[(room + 1) % 7] for room in range(7)], [room == 0 for room in range(7)])
+        two = made("a", [[1], [0]], [True, False])
+        tangled = made("ab", [[1, 0], [2, 1], [3, 0], [4, 2], [4, 5], [0, 1]], [False] * 5 + [True])
+        self.refused_with("TooMany", lambda: either(seven, two))
+        self.refused_with("TooMany", lambda: both(seven, two))
+        self.refused_with("TooMany", lambda: less(seven, two))
+        self.refused_with("TooMany", lambda: then(in_a_row("a", 8), in_a_row("a", 8)))
+        self.refused_with("TooMany", lambda: again(read("a", "...|.....").machine("a")))
+        self.refused_with("TooMany", lambda: turned(tangled))
+        self.refused_with("TooMany", lambda: read("ab", "aaaaaaa").machine("ab"))
+        self.assertIs(refusal_of(lambda: outside(seven)), None)
+
+    def test_no_pattern(self):
+        self.refused_with("NoPattern", lambda: read("ab", ""))
+        self.refused_with("NoPattern", lambda: read("ab", "a)"))
 
 
 if __name__ == "__main__":

@@ -32,6 +32,19 @@ items join keys ljust lower lstrip partition pop remove replace reverse rfind rj
 setdefault split splitlines startswith strip update upper values zfill bit_length
 """.split()
 
+NOT_AS_VALUES = """
+items keys values pop update append clear extend insert remove reverse setdefault sort args encode format
+""".split()
+
+KEYWORDS = {
+    "sorted": ["key", "reverse"], "min": ["key", "default"], "max": ["key", "default"], "sum": ["start"],
+    "enumerate": ["start"], "zip": ["strict"],
+}
+
+WALKED = ["zip", "enumerate", "reversed", "range"]
+WALKED_METHODS = ["items", "keys", "values"]
+WALKERS = ["list", "tuple", "dict", "sorted", "sum", "any", "all", "enumerate", "zip", "min", "max"]
+
 TWO_UNDERSCORES = ["__init__", "__eq__", "__repr__", "__str__", "__len__"]
 
 WORDS_OUT = re.compile(
@@ -131,6 +144,128 @@ def faults_of_defs(tree):
     return faults
 
 
+def parents_of(tree):
+    return {child: node for node in ast.walk(tree) for child in ast.iter_child_nodes(node)}
+
+
+def called_name(node):
+    """The name that a call calls, of a function or of a method; None for everything else."""
+    if not isinstance(node, ast.Call):
+        return None
+    if isinstance(node.func, ast.Name):
+        return node.func.id
+    return node.func.attr if isinstance(node.func, ast.Attribute) else None
+
+
+def is_walked_at_once(node, parent):
+    if isinstance(parent, (ast.For, ast.comprehension)):
+        return parent.iter is node
+    if called_name(parent) == "join":
+        return isinstance(parent.func.value, ast.Constant)
+    return called_name(parent) in WALKERS and isinstance(parent.func, ast.Name) and node in parent.args
+
+
+def is_set_used_at_once(node, parent):
+    if isinstance(parent, ast.Compare):
+        return True
+    return called_name(parent) in ("sorted", "len") and not parent.keywords
+
+
+def faults_of_calls(tree):
+    faults = []
+    parents = parents_of(tree)
+    for node in ast.walk(tree):
+        parent = parents.get(node)
+        name = called_name(node)
+        if isinstance(node, ast.Call) and isinstance(node.func, ast.Name) and name in BUILT_IN:
+            if any(keyword.arg not in KEYWORDS.get(name, []) for keyword in node.keywords):
+                faults.append(f"L22 a keyword at {name}")
+            if name in WALKED and not is_walked_at_once(node, parent):
+                faults.append(f"L23 {name} is kept")
+            if name in ("set", "frozenset") and not is_set_used_at_once(node, parent):
+                faults.append("L24 a set is kept")
+        if isinstance(node, ast.Call) and isinstance(node.func, ast.Attribute):
+            if name in WALKED_METHODS and not is_walked_at_once(node, parent):
+                faults.append(f"L23 {name} is kept")
+        if isinstance(node, ast.Name) and node.id in WALKED + ["len", "sorted"]:
+            is_key = isinstance(parent, ast.keyword) and parent.arg == "key" and node.id == "len"
+            if not is_key and not (isinstance(parent, ast.Call) and parent.func is node):
+                faults.append(f"L22 {node.id} is kept as a value")
+    return faults
+
+
+def faults_of_texts(tree):
+    faults = []
+    for node in ast.walk(tree):
+        if isinstance(node, ast.FormattedValue):
+            if not isinstance(node.value, ast.Name) or node.format_spec or node.conversion not in (-1, ord("r")):
+                faults.append("L7 an f-string")
+        if isinstance(node, ast.BinOp) and isinstance(node.op, ast.Pow):
+            if not isinstance(node.right, ast.Constant) or not 0 <= node.right.value <= 64:
+                faults.append("L27 an exponent")
+        if isinstance(node, ast.AnnAssign) or getattr(node, "annotation", None) or getattr(node, "returns", None):
+            faults.append("L21 an annotation")
+    return faults
+
+
+def faults_of_lambdas(tree):
+    places = [(node.lineno, [arg.arg for arg in node.args.args]) for node in ast.walk(tree)
+              if isinstance(node, ast.Lambda)]
+    return ["L13 lambdas alike on one row" for place in places if places.count(place) > 1]
+
+
+def faults_of_errors(tree):
+    faults = []
+    for node in ast.walk(tree):
+        if isinstance(node, ast.Raise) and not isinstance(node.exc, ast.Call):
+            faults.append("L19 a raise that does not make its error")
+        if isinstance(node, ast.ExceptHandler):
+            named = [name.id for name in ast.walk(node.type or ast.Tuple([])) if isinstance(name, ast.Name)]
+            if not named or any(name in ("Exception", "TypeError", "ValueError", "LookupError") for name in named):
+                faults.append("L19 an except")
+    return faults
+
+
+def bound_in(node):
+    """The parameters and locals of a def."""
+    names = [inner.arg for inner in ast.walk(node) if isinstance(inner, ast.arg)]
+    for inner in ast.walk(node):
+        if isinstance(inner, ast.Name) and isinstance(inner.ctx, ast.Store):
+            names.append(inner.id)
+        if isinstance(inner, ast.ExceptHandler) and inner.name:
+            names.append(inner.name)
+    return names
+
+
+def faults_of_locals(tree):
+    taken = [name.name for node in tree.body if isinstance(node, ast.ImportFrom) for name in node.names]
+    taken.extend(node.name for node in tree.body if isinstance(node, ast.ClassDef))
+    faults = []
+    for node in ast.walk(tree):
+        if isinstance(node, ast.FunctionDef):
+            both = [name for name in bound_in(node) if name in taken or hasattr(builtins, name)]
+            faults.extend(f"L15 {name} in {node.name}" for name in both)
+    return faults
+
+
+def faults_of_classes(trees):
+    methods = {}
+    values = set()
+    faults = []
+    for tree in trees:
+        for node in ast.walk(tree):
+            if isinstance(node, ast.ClassDef):
+                own = [part.name for part in node.body if isinstance(part, ast.FunctionDef)]
+                methods.update((name, node.name) for name in own)
+                if len(own) != len(set(own)):
+                    faults.append(f"L18 a method of {node.name} stands twice")
+            if isinstance(node, ast.Attribute) and isinstance(node.ctx, ast.Store):
+                values.add(node.attr)
+    faults.extend(f"L18 {name} is a method and a value" for name in sorted(values) if name in methods)
+    faults.extend(f"L26 {name} is a value" for name in sorted(values) if name in NOT_AS_VALUES)
+    return faults
+
+
 def defined_names(tree):
     names = [node.name for node in tree.body if isinstance(node, (ast.FunctionDef, ast.ClassDef))]
     for node in tree.body:
@@ -175,8 +310,11 @@ def faults_of_package(sources):
     for name, source in sources.items():
         tree = trees[name]
         found = faults_of_rows(source) + faults_of_names(tree, own) + faults_of_nodes(tree)
-        found = found + faults_of_defs(tree) + faults_of_top(tree, trees)
+        found = found + faults_of_defs(tree) + faults_of_top(tree, trees) + faults_of_calls(tree)
+        found = found + faults_of_texts(tree) + faults_of_errors(tree) + faults_of_locals(tree)
+        found = found + faults_of_lambdas(tree)
         faults.extend(f"{name}: {fault}" for fault in found)
+    faults.extend(faults_of_classes(trees.values()))
     if not faults and any(circle_from(name, trees, []) for name in trees):
         faults.append("L16 files draw from one another")
     return faults
@@ -213,6 +351,21 @@ class TheFormIsSeen(unittest.TestCase):
             "def f(x):\n    for a in x:\n        pass\n    else:\n        pass\n",
             "def f(x):\n" + "    x = x + 1\n" * 41, "def hidden_(x):\n    _y = x\n    return _y\n",
             "class C:\n    x = 1\n", "class C(ValueError, KeyError):\n    pass\n",
+            "def f(x):\n    return sorted(x, default=1)\n", "def f(x):\n    return max(len(x), key=len, start=1)\n",
+            "def f(x):\n    y = zip(x, x)\n    return list(y)\n", "def f(x):\n    return x.keys()\n",
+            "def f(x):\n    y = set(x)\n    return 1 in y\n", "def f(x):\n    for y in set(x):\n        return y\n",
+            "def f(x):\n    return tuple(set(x))\n", "def f(x):\n    y = sorted\n    return y(x)\n",
+            "def f(x):\n    return f'{x.y}'\n", "def f(x):\n    return f'{x:3}'\n", "def f(x):\n    return 2 ** x\n",
+            "def f(x: int):\n    return x\n", "def f(x) -> int:\n    return x\n", "def f(x):\n    raise x\n",
+            "def f(x):\n    try:\n        x()\n    except Exception:\n        pass\n",
+            "def f(x):\n    try:\n        x()\n    except (KeyError, ValueError):\n        pass\n",
+            "def f(x):\n    try:\n        x()\n    except:\n        pass\n",
+            "class C:\n    pass\n\n\ndef f(x):\n    C = x\n    return C\n",
+            "def f(x):\n    hash = x\n    return hash\n", "def f(x):\n    return [min for min in x]\n",
+            "class C:\n    def f(self):\n        self.g = 1\n\n    def g(self):\n        return 1\n",
+            "class C:\n    def f(self):\n        return 1\n\n    def f(self):\n        return 2\n",
+            "class C:\n    def f(self, x):\n        self.items = x\n",
+            "def f(x):\n    return x(lambda y: y, lambda y: 1)\n",
         ]:
             self.assertNotEqual(faults_of_package({"roomalgebra.sample": source}), [], source)
 
@@ -223,8 +376,15 @@ class TheFormIsSeen(unittest.TestCase):
                          ["L16 files draw from one another"])
 
     def test_plain_code_is_let_by(self):
-        plain = '"""A file."""\n\nMOST = 3\n\n\ndef f(x):\n    return [a + MOST for a in x if a is not None]\n'
-        self.assertEqual(faults_of_package({"roomalgebra.sample": plain}), [])
+        for plain in [
+            '"""A file."""\n\nMOST = 3\n\n\ndef f(x):\n    return [a + MOST for a in x if a is not None]\n',
+            "def f(x):\n    return sorted(set(x))\n", "def f(x):\n    return 1 in set(x) or set(x) == set([])\n",
+            "def f(x):\n    return list(zip(x, x)) + [a for a in range(3)] + sorted(x, key=len, reverse=True)\n",
+            "def f(x):\n    return ''.join(reversed(x)) + f'{x!r}{x}' + str(3 ** 4)\n",
+            "class C(ValueError):\n    pass\n\n\ndef f(x):\n    try:\n        x()\n    except C as e:\n"
+            "        raise C(e.sign) from None\n\n\ndef sign():\n    return max([1])\n",
+        ]:
+            self.assertEqual(faults_of_package({"roomalgebra.sample": plain}), [], plain)
 
 
 if __name__ == "__main__":

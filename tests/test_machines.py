@@ -1,31 +1,14 @@
 """How machines are made and where words lead in them (points 2, 3, 8 and 9)."""
 
 import inspect
-import itertools
 import unittest
 
+from helper import circle, walked, words_up_to
 from roomalgebra.errors import NoMachine, NoRoom, NoWord
 from roomalgebra.machines import made, room_after, takes
 
 # Room 0 waits for a, room 1 for b, room 2 has seen ab, room 3 is never left.
 ABOUT_AB = ("ba", [[0, 1], [2, 1], [3, 1], [3, 3]], [False, False, True, True])
-
-
-def circle(letters, rooms):
-    ways = [[(room + step + 1) % rooms for step in range(len(letters))] for room in range(rooms)]
-    return made(letters, ways, [room % 2 == 0 for room in range(rooms)])
-
-
-def words_up_to(letters, longest):
-    for length in range(longest + 1):
-        for signs in itertools.product(letters, repeat=length):
-            yield "".join(signs)
-
-
-def walked(ways, letters, room, word):
-    for sign in word:
-        room = ways[room][letters.find(sign)]
-    return room
 
 
 class Made(unittest.TestCase):

@@ -1,23 +1,15 @@
 """Letters, words, their order and their numbers (points 2, 3, 5, 6 and 7)."""
 
 import inspect
-import itertools
 import unittest
 
+from helper import NO_LETTERS, words_up_to
 from roomalgebra.errors import NoLetters, NoNumber, NoWord
 from roomalgebra.machines import made
 from roomalgebra.words import earlier, next_word, number_of, word_of
 
 LETTERS = ["a", "z", "ab", "ba", "zm", "abc", "cab", "bca", "cba"]
 SIGNS = [chr(code) for code in range(ord(" "), ord("~") + 1)]
-NO_LETTERS = ["", "abcd", "aa", "aba", "abb", "aab", "A", "aB", "a1", " ", "a ", "ab-", "a" * 1000, "abcdefghijklm"]
-
-
-def row_of_words(letters, longest):
-    row = []
-    for length in range(longest + 1):
-        row.extend("".join(signs) for signs in itertools.product(letters, repeat=length))
-    return row
 
 
 def last_number_of_length(letters, length):
@@ -78,7 +70,7 @@ class Words(unittest.TestCase):
 class Earlier(unittest.TestCase):
     def test_every_two_short_words(self):
         for letters in LETTERS:
-            row = row_of_words(letters, 6 if len(letters) == 1 else 4)
+            row = list(words_up_to(letters, 6 if len(letters) == 1 else 4))
             for place, one in enumerate(row):
                 for other_place, two in enumerate(row):
                     self.assertIs(earlier(letters, one, two), place < other_place, (letters, one, two))
@@ -115,7 +107,7 @@ class Earlier(unittest.TestCase):
 class Numbers(unittest.TestCase):
     def test_short_words_there_and_back(self):
         for letters in LETTERS:
-            row = row_of_words(letters, 30 if len(letters) == 1 else 5)
+            row = list(words_up_to(letters, 30 if len(letters) == 1 else 5))
             for number, word in enumerate(row):
                 self.assertEqual(number_of(letters, word), number)
                 self.assertEqual(word_of(letters, number), word)
