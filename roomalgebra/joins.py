@@ -4,6 +4,7 @@ from roomalgebra.alike import first_rooms, folded, many_lots, parting_word, roun
 from roomalgebra.checks import need_same_letters
 from roomalgebra.errors import TooMany
 from roomalgebra.least import least
+from roomalgebra.roads import lots_after, walked_turned
 from roomalgebra.walks import walked, walked_machine
 
 MOST_ROOMS = 8
@@ -57,16 +58,8 @@ def again(machine):
     return told(walked(piece[0], (True, (0,)), goals_of, lambda state: state[0]))
 
 
-# A state holds the rooms from which what is read so far leads, from behind, to a marked room.
 def turned(machine):
-    plain = least(machine)
-    marks = plain[2]
-
-    def goals_of(state):
-        return [rooms_into(plain, place, state) for place in range(len(plain[0]))]
-
-    start = tuple([room for room, mark in enumerate(marks) if mark])
-    return told(walked(plain[0], start, goals_of, lambda state: 0 in state))
+    return told(walked_turned(least(machine)))
 
 
 def paired(machine, second, is_wanted):
@@ -84,15 +77,6 @@ def paired(machine, second, is_wanted):
 # In order and each once, so that equal lots of rooms are equal tuples.
 def lot_of(rooms):
     return tuple(sorted(set(rooms)))
-
-
-def lots_after(machine, rooms):
-    rows = [machine[1][room] for room in rooms]
-    return [[row[place] for row in rows] for place in range(len(machine[0]))]
-
-
-def rooms_into(machine, place, rooms):
-    return tuple([room for room, row in enumerate(machine[1]) if row[place] in rooms])
 
 
 def has_marked(machine, rooms):

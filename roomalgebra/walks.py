@@ -12,10 +12,13 @@ class Walk:
 
 
 # The things found earliest are led on first, and the letters in their order: so each is found by its first word.
-def walked(letters, start, goals_of, is_marked):
+# With most the walk breaks off once it holds more things, as whoever asks so wants no more of them.
+def walked(letters, start, goals_of, is_marked, most=None):
     walk = Walk(letters, start)
     rooms = {start: 0}
     while len(walk.ways) < len(walk.things):
+        if most is not None and len(walk.things) > most:
+            break
         room = len(walk.ways)
         goals = goals_of(walk.things[room])
         row = []

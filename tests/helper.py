@@ -7,6 +7,7 @@ import random
 from roomalgebra import errors
 from roomalgebra import patterns
 from roomalgebra.machines import made, takes
+from roomalgebra.reader import read
 
 REFUSALS = ["NoLetters", "NoWord", "NoNumber", "NoRoom", "NoMachine", "OtherLetters", "TooMany", "NoPattern",
             "TooGreat", "NoKind"]
@@ -49,6 +50,18 @@ def some_machines(seed, many, letters, most_rooms):
     return [some_machine(chance, letters, chance.randrange(most_rooms) + 1) for number in range(many)]
 
 
+def every_machine_of_two_rooms(letters):
+    """Each machine with two rooms over two letters."""
+    for ways in itertools.product([0, 1], repeat=4):
+        for marks in itertools.product([True, False], repeat=2):
+            yield made(letters, [ways[:2], ways[2:]], marks)
+
+
+def of(letters, text):
+    """The least machine of the pattern that is written so."""
+    return read(letters, text).machine(letters)
+
+
 def blown_up(machine, seed):
     """A machine with the same set: each room stands there three times, shuffled, and one lies apart from all."""
     letters, ways, marks = machine
@@ -63,6 +76,40 @@ def blown_up(machine, seed):
         new_ways[place[old]] = [place[goal + many * chance.randrange(3)] for goal in ways[old % many]]
         new_marks[place[old]] = marks[old % many]
     return made(letters, new_ways + [[3 * many] * len(letters)], new_marks + [True])
+
+
+def loosened(machine, seed, rooms=8):
+    """A machine with the same set and that many rooms: copies of rooms are put in, and all but room 0 shuffled."""
+    letters, ways, marks = machine
+    chance = random.Random(seed)
+    more = list(range(1, len(ways))) + [chance.randrange(len(ways)) for copy in range(rooms - len(ways))]
+    chance.shuffle(more)
+    olds = [0] + more
+    copies = [[room for room, old in enumerate(olds) if old == goal] for goal in range(len(ways))]
+    new_ways = [[chance.choice(copies[goal]) for goal in ways[old]] for old in olds]
+    return made(letters, new_ways, [marks[old] for old in olds])
+
+
+@functools.lru_cache(maxsize=None)
+def set_of(machine):
+    """The machine's set, as a question to be asked of words."""
+    letters, ways, marks = machine
+    return functools.lru_cache(maxsize=None)(lambda word: marks[walked(ways, letters, 0, word)])
+
+
+def in_place(machine, one, two):
+    """Whether the one word may be put in the place of the other, anywhere: by all words that could matter."""
+    is_in = set_of(machine)
+    around = list(words_up_to(machine[0], len(machine[1]) - 1))
+    return all(is_in(ahead + one + behind) == is_in(ahead + two + behind) for ahead in around for behind in around)
+
+
+def bar_words_fault(letters, words):
+    """Tells what is wrong with words that stand in a bar, whatever the kind; None where nothing is."""
+    for word in words:
+        if type(word) is not str or word.strip(letters) or len(word) > 60:
+            return f"{word!r} is no word over the letters, or too long"
+    return None
 
 
 def plain_fault(machine):
@@ -230,3 +277,91 @@ def too_many_fault(refusal, letters, is_in):
         if is_in(refusal.words[i] + tail) == is_in(refusal.words[j] + tail):
             return f"{tail!r} does not part {i} and {j}"
     return None
+
+
+class Verdicts:
+    """What is asked of a verdict whatever the kind. The class under it tells, by kind, how it is told and what a paper
+    says (tell, says), and of each kind how papers and bars look and the paper as told without the program."""
+
+    def verdict(self, kind, machine, truth):
+        told = self.tell[kind](machine)
+        self.assertEqual((type(told), len(told), told[0]), (tuple, 2, truth), (kind, machine, told))
+        return told[1]
+
+    def of_the_kind(self, kind, machine):
+        """The paper, which must say of each word up to some length what the machine does."""
+        paper = self.verdict(kind, machine, True)
+        self.paper_looks_right(kind, machine, paper)
+        for word in words_up_to(machine[0], {1: 30, 2: 8, 3: 5}[len(machine[0])]):
+            self.assertIs(self.says[kind](machine[0], paper, word), takes(machine, word), (kind, machine, word))
+        return paper
+
+    def not_of_the_kind(self, kind, machine):
+        """The bar, whose words must be in and not in as they should, however often the piece is written."""
+        bar = self.verdict(kind, machine, False)
+        self.assertIs(type(bar), tuple)
+        self.assertIs(bar_words_fault(machine[0], [word for word in bar if word not in ("swap", "stay")]), None)
+        self.bar_looks_right(kind, machine, bar)
+        return bar
+
+    def right(self, kind, machine):
+        paper = self.by_hand(kind, machine)
+        if paper is None:
+            self.not_of_the_kind(kind, machine)
+            return False
+        self.assertEqual(self.of_the_kind(kind, machine), paper, (kind, machine))
+        return True
+
+    def some_of_both(self, kind, machines):
+        told = [self.right(kind, machine) for machine in machines]
+        self.assertEqual(sorted(set(told)), [False, True])
+
+    def right_either_way(self, kind, machine):
+        if self.tell[kind](machine)[0]:
+            return self.of_the_kind(kind, machine)
+        return self.not_of_the_kind(kind, machine)
+
+
+class KindsAlike:
+    """Tests that are the same whatever the kind; the class under it tells some papers over ba and some samples."""
+
+    def test_machines_that_are_not_least(self):
+        for number, (letters, machine) in enumerate(self.samples):
+            loose = loosened(machine, number)
+            for kind, tell in self.tell.items():
+                self.assertIs(tell(loose)[0], tell(machine)[0])
+                if tell(machine)[0]:
+                    self.assertEqual(tell(loose), tell(machine))
+                self.right_either_way(kind, loose)
+
+    def test_a_set_is_of_a_kind_just_where_the_words_that_are_not_in_it_are(self):
+        for letters, (own, ways, marks) in self.samples:
+            other = made(letters, ways, [not mark for mark in marks])
+            for kind, tell in self.tell.items():
+                self.assertIs(tell(other)[0], tell((own, ways, marks))[0])
+
+    def test_machines_of_eight_rooms_over_three_letters_in_good_time(self):
+        chance = random.Random(83)
+        for number in range(100):
+            machine = some_machine(chance, "cab", 8)
+            for kind in self.tell:
+                self.right_either_way(kind, machine)
+
+    def test_a_paper_that_is_handed_in_stays(self):
+        for kind, paper in self.papers.items():
+            kept = repr(paper)
+            self.says[kind]("ba", paper, "bab")
+            self.assertEqual(repr(paper), kept)
+
+    def test_no_letters(self):
+        for kind, paper in self.papers.items():
+            for letters in NO_LETTERS:
+                for word in ["", "a", "?"]:
+                    refusal = refusal_of(lambda: self.says[kind](letters, paper, word))
+                    self.assertEqual(classes_of(refusal), ["NoLetters"], (kind, letters, word))
+
+    def test_no_word(self):
+        for kind, paper in self.papers.items():
+            for word in ["c", "abc", "A", " ", "ab ", "a" * 999 + "c"]:
+                refusal = refusal_of(lambda: self.says[kind]("ba", paper, word))
+                self.assertEqual(classes_of(refusal), ["NoWord"], (kind, word))

@@ -1,14 +1,17 @@
-"""The refusals: their classes and their fields (points 2, 5 to 9, 11, 13 to 15, 19, 21 and the interface)."""
+"""The refusals: their classes and their fields (points 2, 5 to 9, 11, 13 to 15, 19, 21 to 23 and the interface)."""
 
 import unittest
 
 from helper import REFUSALS, classes_of, in_a_row, refusal_of
 from roomalgebra import errors
+from roomalgebra.acts import act_of, acts, table
 from roomalgebra.joins import again, both, either, less, outside, then, turned
+from roomalgebra.kinds import says_first, says_last, says_within
 from roomalgebra.least import apart, parting
 from roomalgebra.machines import made, room_after, takes
 from roomalgebra.patterns import Never
 from roomalgebra.reader import read
+from roomalgebra.tallies import says_counts, says_tally
 from roomalgebra.words import earlier, next_word, number_of, word_of
 
 LOOP = made("ab", [[0, 0]], [True])
@@ -76,6 +79,11 @@ class EachRefusalIsOfItsOwnClass(unittest.TestCase):
         self.refused_with("NoLetters", lambda: made("", [[0]], [True]))
         self.refused_with("NoLetters", lambda: read("abb", "a"))
         self.refused_with("NoLetters", lambda: Never().machine(""))
+        self.refused_with("NoLetters", lambda: says_first("aa", ([], []), "b"))
+        self.refused_with("NoLetters", lambda: says_last("aa", ([], []), "b"))
+        self.refused_with("NoLetters", lambda: says_within("aa", [], "b"))
+        self.refused_with("NoLetters", lambda: says_tally("aa", ([(0, 1), (0, 1)], []), "b"))
+        self.refused_with("NoLetters", lambda: says_counts("aa", ([1, 1], []), "b"))
 
     def test_no_word(self):
         self.refused_with("NoWord", lambda: earlier("ab", "c", ""))
@@ -84,6 +92,12 @@ class EachRefusalIsOfItsOwnClass(unittest.TestCase):
         self.refused_with("NoWord", lambda: next_word("ab", "c"))
         self.refused_with("NoWord", lambda: room_after(LOOP, 0, "c"))
         self.refused_with("NoWord", lambda: takes(LOOP, "c"))
+        self.refused_with("NoWord", lambda: act_of(LOOP, "c"))
+        self.refused_with("NoWord", lambda: says_first("ab", ([], []), "c"))
+        self.refused_with("NoWord", lambda: says_last("ab", ([], []), "c"))
+        self.refused_with("NoWord", lambda: says_within("ab", [], "c"))
+        self.refused_with("NoWord", lambda: says_tally("ab", ([(0, 1), (0, 1)], []), "c"))
+        self.refused_with("NoWord", lambda: says_counts("ab", ([1, 1], []), "c"))
 
     def test_no_number(self):
         self.refused_with("NoNumber", lambda: word_of("ab", -1))
@@ -118,6 +132,11 @@ class EachRefusalIsOfItsOwnClass(unittest.TestCase):
         self.refused_with("TooMany", lambda: turned(tangled))
         self.refused_with("TooMany", lambda: read("ab", "aaaaaaa").machine("ab"))
         self.assertIs(refusal_of(lambda: outside(seven)), None)
+
+    def test_too_great(self):
+        tangled = made("ab", [[1, 0], [2, 1], [3, 0], [4, 2], [4, 5], [0, 1]], [False] * 5 + [True])
+        self.refused_with("TooGreat", lambda: acts(tangled))
+        self.refused_with("TooGreat", lambda: table(tangled))
 
     def test_no_pattern(self):
         self.refused_with("NoPattern", lambda: read("ab", ""))
