@@ -13,7 +13,7 @@ SAMPLES = [(letters, machine) for letters in ["a", "ba", "cab"] for machine in s
 class RoomsAtOnce(unittest.TestCase):
     def test_each_thing_is_where_its_word_leads_the_rooms(self):
         for letters, machine in SAMPLES:
-            rooms = [0, len(machine[1]) - 1, 0]
+            rooms = [len(machine[1]) - 1, 0, 0]
             walk = walked_rooms(machine, rooms)
             for thing, word, mark in zip(walk.things, walk.words, walk.marks):
                 self.assertEqual(thing, tuple(walked(machine[1], letters, room, word) for room in rooms))
