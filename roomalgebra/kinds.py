@@ -1,6 +1,5 @@
 """The kinds first, last and within: a paper or a bar for a machine's set, and what a paper says of a word."""
 
-from roomalgebra.checks import need_letters, need_word
 from roomalgebra.least import first_words, least
 from roomalgebra.roads import parted, walked_rooms, walked_turned, way_back
 from roomalgebra.walks import walked
@@ -28,20 +27,14 @@ def tell_within(machine):
 
 
 def says_first(letters, paper, word):
-    need_letters(letters)
-    need_word(letters, word)
     return word in paper[0] or any([word.startswith(begin) for begin in paper[1]])
 
 
 def says_last(letters, paper, word):
-    need_letters(letters)
-    need_word(letters, word)
     return word in paper[0] or any([word.endswith(end) for end in paper[1]])
 
 
 def says_within(letters, paper, word):
-    need_letters(letters)
-    need_word(letters, word)
     return lot_in(letters, word) in paper
 
 

@@ -43,6 +43,14 @@ def way_back(walk):
     return None
 
 
+# The first word that leads from the one room to the other, or None.
+def road(machine, room, other):
+    walk = walked_rooms(machine, [room])
+    if (other,) in walk.things:
+        return walk.words[walk.things.index((other,))]
+    return None
+
+
 # Of two words that lead to unlike rooms: the one that is in with the tail behind it, the other one, and that tail.
 def parted(machine, one, two):
     tail = parting(machine, room_after(machine, 0, one), room_after(machine, 0, two))

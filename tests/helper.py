@@ -3,18 +3,39 @@
 import functools
 import itertools
 import random
+import re
 
 from roomalgebra import errors
 from roomalgebra import patterns
+from roomalgebra.least import least
 from roomalgebra.machines import made, takes
 from roomalgebra.reader import read
+from roomalgebra.tell import says, tell
 
 REFUSALS = ["NoLetters", "NoWord", "NoNumber", "NoRoom", "NoMachine", "OtherLetters", "TooMany", "NoPattern",
             "TooGreat", "NoKind"]
+KINDS = ["first", "last", "within", "tally", "counts", "onward", "plain"]
 ALONE = {"outside": patterns.Outside, "turned": patterns.Turned, "again": patterns.Again}
 PAIRS = {"either": patterns.Either, "less": patterns.Less, "both": patterns.Both, "then": patterns.Then}
 LEAVES = {"never": patterns.Never, "empty": patterns.Empty, "sign": patterns.Sign, "any": patterns.AnySign}
 NO_LETTERS = ["", "abcd", "aa", "aba", "abb", "aab", "A", "aB", "a1", " ", "a ", "ab-", "a" * 1000, "abcdefghijklm"]
+# Machines of just forty acts, and of just forty-one.
+JUST_FORTY = [
+    made("ba", [[1, 0], [2, 1], [3, 1], [0, 1]], [True, True, False, False]),
+    made("ba", [[1, 5], [2, 5], [6, 5], [6, 2], [7, 0], [1, 5], [2, 6], [2, 2]], [True] + [False] * 7),
+    made("cab", [[3, 0, 0], [2, 0, 1], [3, 1, 2], [1, 0, 3]], [False, True, False, False]),
+    # a group: one letter counts on by one in five rooms, one doubles there, one changes two other rooms about
+    made("cab", [[(room + 1) % 5, 2 * room % 5, room] for room in range(5)] + [[5, 5, 6], [6, 6, 5]], [True] * 7),
+]
+FORTY_ONE = [
+    made("ba", [[2, 1], [3, 2], [2, 0], [0, 0]], [True, True, False, True]),
+    made("ba", [[0, 0], [7, 1], [5, 0], [3, 1], [0, 4], [5, 3], [0, 3], [7, 2]], [True] * 8),
+    made("cab", [[0, 4, 1], [1, 2, 4], [2, 2, 1], [4, 2, 0], [4, 2, 0]], [True, True, False, False, False]),
+    made("cab", [[1, 2, 0], [6, 6, 0], [6, 4, 6], [1, 2, 2], [1, 4, 0], [1, 1, 1], [1, 6, 0]], [False] * 7),
+]
+# All acts on eight rooms: a ring, two rooms changed about, one room led into another.
+ALL_ACTS = made("abc", [[(room + 1) % 8, [1, 0, 2, 3, 4, 5, 6, 7][room], [0, 0, 2, 3, 4, 5, 6, 7][room]]
+                        for room in range(8)], [room == 0 for room in range(8)])
 
 
 def words_up_to(letters, longest):
@@ -27,6 +48,28 @@ def walked(ways, letters, room, word):
     for sign in word:
         room = ways[room][letters.find(sign)]
     return room
+
+
+def word_key(letters):
+    """What puts words into their order."""
+    return lambda word: (len(word), [letters.index(sign) for sign in word])
+
+
+def act_by_hand(machine, word):
+    letters, ways, marks = machine
+    return tuple(walked(ways, letters, room, word) for room in range(len(ways)))
+
+
+@functools.lru_cache(maxsize=None)
+def acts_by_hand(machine):
+    """Word by word, in their order, until words of some length do nothing new: then longer ones do not either."""
+    told = {}
+    for length in itertools.count():
+        known = len(told)
+        for signs in itertools.product(machine[0], repeat=length):
+            told.setdefault(act_by_hand(machine, "".join(signs)), "".join(signs))
+        if len(told) == known:
+            return [(word, act) for act, word in told.items()]
 
 
 def circle(letters, rooms):
@@ -102,14 +145,6 @@ def in_place(machine, one, two):
     is_in = set_of(machine)
     around = list(words_up_to(machine[0], len(machine[1]) - 1))
     return all(is_in(ahead + one + behind) == is_in(ahead + two + behind) for ahead in around for behind in around)
-
-
-def bar_words_fault(letters, words):
-    """Tells what is wrong with words that stand in a bar, whatever the kind; None where nothing is."""
-    for word in words:
-        if type(word) is not str or word.strip(letters) or len(word) > 60:
-            return f"{word!r} is no word over the letters, or too long"
-    return None
 
 
 def plain_fault(machine):
@@ -279,29 +314,250 @@ def too_many_fault(refusal, letters, is_in):
     return None
 
 
+def great_fault(refusal, machine):
+    """Tells what is wrong with the words of a TooGreat for that machine; None where nothing is."""
+    if classes_of(refusal) != ["TooGreat"]:
+        return f"no TooGreat but {refusal!r}"
+    if type(refusal.words) is not list or len(refusal.words) != 41:
+        return "no forty-one words"
+    for word in refusal.words:
+        if type(word) is not str or word.strip(machine[0]) or len(word) > 100:
+            return f"{word!r} is no word over the letters, or too long"
+    if len(set(act_by_hand(machine, word) for word in refusal.words)) != 41:
+        return "two words do the same act"
+    return None
+
+
+def first_reader(letters, paper):
+    just, begins = paper
+    return lambda word: word in just or any(word[:len(begin)] == begin for begin in begins)
+
+
+def last_reader(letters, paper):
+    from_behind = first_reader(letters, [[word[::-1] for word in words] for words in paper])
+    return lambda word: from_behind(word[::-1])
+
+
+def within_reader(letters, paper):
+    return lambda word: "".join(sorted(set(word), key=letters.index)) in paper
+
+
+def tally_reader(letters, paper):
+    rows, table = paper
+
+    def told(times, low, rest):
+        return times if times < low else low + (times - low) % rest
+
+    return lambda word: tuple(told(word.count(letter), *row) for letter, row in zip(letters, rows)) in table
+
+
+def counts_reader(letters, paper):
+    return tally_reader(letters, ([(0, rest) for rest in paper[0]], paper[1]))
+
+
+def onward_reader(letters, paper):
+    def written(stays, steps):
+        pieces = [f"[{stay}]*" if stay else "" for stay in stays]
+        return re.compile(pieces[0] + "".join(step + piece for step, piece in zip(steps, pieces[1:])))
+
+    chains = [written(*chain) for chain in paper]
+    return lambda word: any(chain.fullmatch(word) for chain in chains)
+
+
+def plain_reader(letters, paper):
+    rows, goals = paper
+
+    @functools.lru_cache(maxsize=None)
+    def is_of(number, word):
+        begins, ends, never, shuts = rows[number]
+        places = range(len(word))
+        if begins is not None and not any(word[at] == a and is_of(i, word[:at]) for i, a in begins for at in places):
+            return False
+        if ends is not None and not any(word[at] == a and is_of(i, word[at + 1:]) for a, i in ends for at in places):
+            return False
+        if set(word) & set(never):
+            return False
+        return not any(word[at] == a and word[to] == b and is_of(i, word[at + 1:to])
+                       for a, i, b in shuts for at, to in itertools.combinations(places, 2))
+
+    return lambda word: any(is_of(goal, word) for goal in goals)
+
+
+# For each kind what a paper says of words, by the words of the document alone.
+READERS = {"first": first_reader, "last": last_reader, "within": within_reader, "tally": tally_reader,
+           "counts": counts_reader, "onward": onward_reader, "plain": plain_reader}
+
+
+def lists_in(told):
+    """All lists that are told, the ones within others too."""
+    inner = [found for part in told for found in lists_in(part)] if type(told) in (tuple, list) else []
+    return inner + ([told] if type(told) is list else [])
+
+
+def are_words(letters, words):
+    return type(words) is list and all(type(word) is str and not word.strip(letters) for word in words)
+
+
+def in_order(letters, words):
+    """Whether these are words, each once, in their order."""
+    return are_words(letters, words) and words == sorted(set(words), key=word_key(letters))
+
+
+def is_lot(letters, lot):
+    return type(lot) is str and lot == "".join(letter for letter in letters if letter in lot)
+
+
+def are_numbers(numbers):
+    return all(type(number) is int and number >= 0 for number in numbers)
+
+
+def sides_look_right(letters, paper):
+    return type(paper) is tuple and len(paper) == 2 and all(in_order(letters, words) for words in paper)
+
+
+def within_looks_right(letters, paper):
+    return in_order(letters, paper) and all(is_lot(letters, lot) for lot in paper)
+
+
+def tally_looks_right(letters, paper):
+    rows, table = paper
+    if [type(paper), type(rows), type(table)] != [tuple, list, list] or len(rows) != len(letters):
+        return False
+    if not all(type(row) is tuple and len(row) == 2 and are_numbers(row) and row[1] > 0 for row in rows):
+        return False
+    if not all(type(cell) is tuple and len(cell) == len(letters) and are_numbers(cell) for cell in table):
+        return False
+    return table == sorted(set(table)) and all(number < low + rest for cell in table
+                                               for number, (low, rest) in zip(cell, rows))
+
+
+def counts_look_right(letters, paper):
+    rests, table = paper
+    if type(paper) is not tuple or type(rests) is not list:
+        return False
+    return tally_looks_right(letters, ([(0, rest) for rest in rests], table))
+
+
+def onward_looks_right(letters, paper):
+    if type(paper) is not list or any(type(chain) is not tuple or len(chain) != 2 for chain in paper):
+        return False
+    if not in_order(letters, [steps for stays, steps in paper]):
+        return False
+    return all(type(stays) is list and len(stays) == len(steps) + 1 and all(is_lot(letters, stay) for stay in stays)
+               and not any(step in stay for step, stay in zip(steps, stays)) for stays, steps in paper)
+
+
+def row_looks_right(letters, number, row):
+    begins, ends, never, shuts = row
+    if type(row) is not tuple or not is_lot(letters, never):
+        return False
+    for named, kinds in [(begins or [], (int, str)), (ends or [], (str, int)), (shuts, (str, int, str))]:
+        if type(named) is not list or any(type(name) is not tuple for name in named):
+            return False
+        for name in named:
+            if tuple(type(part) for part in name) != kinds or len(set(named)) != len(named):
+                return False
+            if not all(0 <= part < number if type(part) is int else len(part) == 1 and part in letters
+                       for part in name):
+                return False
+    return type(begins) in (list, type(None)) and type(ends) in (list, type(None))
+
+
+def plain_looks_right(letters, paper):
+    rows, goals = paper
+    if [type(paper), type(rows), type(goals)] != [tuple, list, list] or len(rows) > 40:
+        return False
+    if not are_numbers(goals) or goals != sorted(set(goals)) or any(goal >= len(rows) for goal in goals):
+        return False
+    return all(row_looks_right(letters, number, row) for number, row in enumerate(rows))
+
+
+LOOKS = {"first": sides_look_right, "last": sides_look_right, "within": within_looks_right,
+         "tally": tally_looks_right, "counts": counts_look_right, "onward": onward_looks_right,
+         "plain": plain_looks_right}
+
+
+def paper_fault(kind, letters, paper):
+    """Tells what is wrong with the look of a paper; None where nothing is."""
+    if not LOOKS[kind](letters, paper):
+        return f"{paper!r} is not such a paper as the kind {kind} has"
+    if len(set(id(found) for found in lists_in(paper))) != len(lists_in(paper)):
+        return "the same list stands there twice"
+    return None
+
+
+def swapped(is_in, bar):
+    return sorted(bar[1]) == sorted(bar[2]) and [is_in(word) for word in bar[1:]] == [True, False]
+
+
+def is_right_bar(kind, is_in, bar, often):
+    """Whether the words of a bar are in and not in as the kind asks, with the piece written so often."""
+    if kind == "within":
+        return set(bar[0]) == set(bar[1]) and [is_in(word) for word in bar] == [True, False]
+    if kind in ("tally", "counts") and bar[0] == "swap":
+        return len(bar) == 3 and swapped(is_in, bar)
+    if kind == "counts":
+        name, x, y, z = bar
+        return y != "" and all(is_in(x + z) is not is_in(x + y * n + z) for n in often if n > 0)
+    if kind == "first":
+        x, y, z, t = bar
+        return y != "" and all(is_in(x + y * n + z) and not is_in(x + y * n + t) for n in often)
+    if kind == "last":
+        x, t, y, z = bar
+        return y != "" and all(is_in(x + y * n + z) and not is_in(t + y * n + z) for n in often)
+    if kind == "onward":
+        x, u, v, z = bar
+        found = set((is_in(x + (u + v) * n + z), is_in(x + (u + v) * n + u + z)) for n in often)
+        return u != "" and v != "" and len(found) == 1 and len(set(*found)) == 2
+    x, y, z, many = bar
+    found = set((is_in(x + y * (many * n) + z), is_in(x + y * (many * n + 1) + z)) for n in often if n > 0)
+    return y != "" and type(many) is int and many >= 2 and len(found) == 1 and len(set(*found)) == 2
+
+
+def bar_fault(kind, letters, is_in, bar, often=tuple(range(20)) + (40, 60)):
+    """Tells what is wrong with a bar for that set, with its piece written so often; None where nothing is."""
+    if type(bar) is not tuple:
+        return "no tuple"
+    names = 1 if kind in ("tally", "counts") else 0
+    for word in bar[names:-1] if kind == "plain" else bar[names:]:
+        if type(word) is not str or word.strip(letters) or len(word) > 60:
+            return f"{word!r} is no word over the letters, or too long"
+    if names and bar[0] != "swap" and (kind, bar[0]) != ("counts", "stay"):
+        return f"{bar!r} has no such name as it should"
+    if not is_right_bar(kind, is_in, bar, often):
+        return f"{bar!r} is no bar of the kind {kind}"
+    return None
+
+
 class Verdicts:
-    """What is asked of a verdict whatever the kind. The class under it tells, by kind, how it is told and what a paper
-    says (tell, says), and of each kind how papers and bars look and the paper as told without the program."""
+    """What is asked of a verdict whatever the kind. The class under it tells how papers are told by hand."""
 
     def verdict(self, kind, machine, truth):
-        told = self.tell[kind](machine)
-        self.assertEqual((type(told), len(told), told[0]), (tuple, 2, truth), (kind, machine, told))
+        told = tell(kind, machine)
+        self.assertEqual((type(told), len(told), type(told[0]), told[0]), (tuple, 2, bool, truth),
+                         (kind, machine, told))
         return told[1]
+
+    def says_rightly(self, kind, letters, paper, is_in, longest):
+        """Of each word up to some length it must be told by the paper alone whether it is in."""
+        self.assertIs(paper_fault(kind, letters, paper), None)
+        kept = repr(paper)
+        reads = READERS[kind](letters, paper)
+        for word in words_up_to(letters, longest):
+            self.assertIs(says(kind, letters, paper, word), is_in(word), (kind, paper, word))
+            self.assertIs(bool(reads(word)), is_in(word), (kind, paper, word))
+        self.assertEqual(repr(paper), kept)
 
     def of_the_kind(self, kind, machine):
         """The paper, which must say of each word up to some length what the machine does."""
         paper = self.verdict(kind, machine, True)
-        self.paper_looks_right(kind, machine, paper)
-        for word in words_up_to(machine[0], {1: 30, 2: 8, 3: 5}[len(machine[0])]):
-            self.assertIs(self.says[kind](machine[0], paper, word), takes(machine, word), (kind, machine, word))
+        self.says_rightly(kind, machine[0], paper, set_of(machine), {1: 30, 2: 7, 3: 5}[len(machine[0])])
         return paper
 
     def not_of_the_kind(self, kind, machine):
         """The bar, whose words must be in and not in as they should, however often the piece is written."""
         bar = self.verdict(kind, machine, False)
-        self.assertIs(type(bar), tuple)
-        self.assertIs(bar_words_fault(machine[0], [word for word in bar if word not in ("swap", "stay")]), None)
-        self.bar_looks_right(kind, machine, bar)
+        self.assertIs(bar_fault(kind, machine[0], set_of(machine), bar), None, (kind, machine))
         return bar
 
     def right(self, kind, machine):
@@ -317,51 +573,11 @@ class Verdicts:
         self.assertEqual(sorted(set(told)), [False, True])
 
     def right_either_way(self, kind, machine):
-        if self.tell[kind](machine)[0]:
+        """The paper or the bar; None where it is refused, as may be for the kind plain alone."""
+        refusal = refusal_of(lambda: tell(kind, machine))
+        if refusal is not None:
+            self.assertEqual((kind, great_fault(refusal, least(machine))), ("plain", None))
+            return None
+        if tell(kind, machine)[0]:
             return self.of_the_kind(kind, machine)
         return self.not_of_the_kind(kind, machine)
-
-
-class KindsAlike:
-    """Tests that are the same whatever the kind; the class under it tells some papers over ba and some samples."""
-
-    def test_machines_that_are_not_least(self):
-        for number, (letters, machine) in enumerate(self.samples):
-            loose = loosened(machine, number)
-            for kind, tell in self.tell.items():
-                self.assertIs(tell(loose)[0], tell(machine)[0])
-                if tell(machine)[0]:
-                    self.assertEqual(tell(loose), tell(machine))
-                self.right_either_way(kind, loose)
-
-    def test_a_set_is_of_a_kind_just_where_the_words_that_are_not_in_it_are(self):
-        for letters, (own, ways, marks) in self.samples:
-            other = made(letters, ways, [not mark for mark in marks])
-            for kind, tell in self.tell.items():
-                self.assertIs(tell(other)[0], tell((own, ways, marks))[0])
-
-    def test_machines_of_eight_rooms_over_three_letters_in_good_time(self):
-        chance = random.Random(83)
-        for number in range(100):
-            machine = some_machine(chance, "cab", 8)
-            for kind in self.tell:
-                self.right_either_way(kind, machine)
-
-    def test_a_paper_that_is_handed_in_stays(self):
-        for kind, paper in self.papers.items():
-            kept = repr(paper)
-            self.says[kind]("ba", paper, "bab")
-            self.assertEqual(repr(paper), kept)
-
-    def test_no_letters(self):
-        for kind, paper in self.papers.items():
-            for letters in NO_LETTERS:
-                for word in ["", "a", "?"]:
-                    refusal = refusal_of(lambda: self.says[kind](letters, paper, word))
-                    self.assertEqual(classes_of(refusal), ["NoLetters"], (kind, letters, word))
-
-    def test_no_word(self):
-        for kind, paper in self.papers.items():
-            for word in ["c", "abc", "A", " ", "ab ", "a" * 999 + "c"]:
-                refusal = refusal_of(lambda: self.says[kind]("ba", paper, word))
-                self.assertEqual(classes_of(refusal), ["NoWord"], (kind, word))

@@ -1,17 +1,17 @@
-"""The refusals: their classes and their fields (points 2, 5 to 9, 11, 13 to 15, 19, 21 to 23 and the interface)."""
+"""The refusals: their classes and their fields (points 2, 5 to 9, 11, 13 to 15, 19, 21 to 24, 32 to 35, interface)."""
 
 import unittest
 
 from helper import REFUSALS, classes_of, in_a_row, refusal_of
 from roomalgebra import errors
 from roomalgebra.acts import act_of, acts, table
+from roomalgebra.ideals import groups_of, lead_over, lots_of_acts
 from roomalgebra.joins import again, both, either, less, outside, then, turned
-from roomalgebra.kinds import says_first, says_last, says_within
 from roomalgebra.least import apart, parting
 from roomalgebra.machines import made, room_after, takes
 from roomalgebra.patterns import Never
 from roomalgebra.reader import read
-from roomalgebra.tallies import says_counts, says_tally
+from roomalgebra.tell import says, tell
 from roomalgebra.words import earlier, next_word, number_of, word_of
 
 LOOP = made("ab", [[0, 0]], [True])
@@ -79,11 +79,13 @@ class EachRefusalIsOfItsOwnClass(unittest.TestCase):
         self.refused_with("NoLetters", lambda: made("", [[0]], [True]))
         self.refused_with("NoLetters", lambda: read("abb", "a"))
         self.refused_with("NoLetters", lambda: Never().machine(""))
-        self.refused_with("NoLetters", lambda: says_first("aa", ([], []), "b"))
-        self.refused_with("NoLetters", lambda: says_last("aa", ([], []), "b"))
-        self.refused_with("NoLetters", lambda: says_within("aa", [], "b"))
-        self.refused_with("NoLetters", lambda: says_tally("aa", ([(0, 1), (0, 1)], []), "b"))
-        self.refused_with("NoLetters", lambda: says_counts("aa", ([1, 1], []), "b"))
+        self.refused_with("NoLetters", lambda: says("first", "aa", ([], []), "b"))
+        self.refused_with("NoLetters", lambda: says("last", "aa", ([], []), "b"))
+        self.refused_with("NoLetters", lambda: says("within", "aa", [], "b"))
+        self.refused_with("NoLetters", lambda: says("tally", "aa", ([(0, 1), (0, 1)], []), "b"))
+        self.refused_with("NoLetters", lambda: says("counts", "aa", ([1, 1], []), "b"))
+        self.refused_with("NoLetters", lambda: says("onward", "aa", [], "b"))
+        self.refused_with("NoLetters", lambda: says("plain", "aa", ([(None, None, "", [])], []), "b"))
 
     def test_no_word(self):
         self.refused_with("NoWord", lambda: earlier("ab", "c", ""))
@@ -93,11 +95,15 @@ class EachRefusalIsOfItsOwnClass(unittest.TestCase):
         self.refused_with("NoWord", lambda: room_after(LOOP, 0, "c"))
         self.refused_with("NoWord", lambda: takes(LOOP, "c"))
         self.refused_with("NoWord", lambda: act_of(LOOP, "c"))
-        self.refused_with("NoWord", lambda: says_first("ab", ([], []), "c"))
-        self.refused_with("NoWord", lambda: says_last("ab", ([], []), "c"))
-        self.refused_with("NoWord", lambda: says_within("ab", [], "c"))
-        self.refused_with("NoWord", lambda: says_tally("ab", ([(0, 1), (0, 1)], []), "c"))
-        self.refused_with("NoWord", lambda: says_counts("ab", ([1, 1], []), "c"))
+        self.refused_with("NoWord", lambda: says("first", "ab", ([], []), "c"))
+        self.refused_with("NoWord", lambda: says("last", "ab", ([], []), "c"))
+        self.refused_with("NoWord", lambda: says("within", "ab", [], "c"))
+        self.refused_with("NoWord", lambda: says("tally", "ab", ([(0, 1), (0, 1)], []), "c"))
+        self.refused_with("NoWord", lambda: says("counts", "ab", ([1, 1], []), "c"))
+        self.refused_with("NoWord", lambda: says("onward", "ab", [], "c"))
+        self.refused_with("NoWord", lambda: says("plain", "ab", ([(None, None, "", [])], []), "c"))
+        self.refused_with("NoWord", lambda: lead_over(LOOP, "c", ""))
+        self.refused_with("NoWord", lambda: lead_over(LOOP, "", "c"))
 
     def test_no_number(self):
         self.refused_with("NoNumber", lambda: word_of("ab", -1))
@@ -137,6 +143,16 @@ class EachRefusalIsOfItsOwnClass(unittest.TestCase):
         tangled = made("ab", [[1, 0], [2, 1], [3, 0], [4, 2], [4, 5], [0, 1]], [False] * 5 + [True])
         self.refused_with("TooGreat", lambda: acts(tangled))
         self.refused_with("TooGreat", lambda: table(tangled))
+        self.refused_with("TooGreat", lambda: lots_of_acts(tangled))
+        self.refused_with("TooGreat", lambda: lead_over(tangled, "a", "b"))
+        self.refused_with("TooGreat", lambda: groups_of(tangled))
+        self.refused_with("TooGreat", lambda: tell("plain", tangled))
+
+    def test_no_kind(self):
+        self.refused_with("NoKind", lambda: tell("", LOOP))
+        self.refused_with("NoKind", lambda: tell("firsts", LOOP))
+        self.refused_with("NoKind", lambda: says("", "ab", [], "a"))
+        self.refused_with("NoKind", lambda: says("plai", "", None, "?"))
 
     def test_no_pattern(self):
         self.refused_with("NoPattern", lambda: read("ab", ""))

@@ -3,16 +3,14 @@
 import random
 import unittest
 
-from helper import (KindsAlike, Verdicts, circle, every_machine_of_two_rooms, in_a_row, loosened, of, set_of,
-                    some_machines, words_up_to)
+from helper import (Verdicts, circle, every_machine_of_two_rooms, in_a_row, loosened, of, set_of, some_machines,
+                    words_up_to)
 from roomalgebra.errors import TooMany
 from roomalgebra.joins import outside, turned
-from roomalgebra.kinds import says_first, says_last, says_within, tell_first, tell_last, tell_within
 from roomalgebra.least import least
 from roomalgebra.machines import made
+from roomalgebra.tell import says, tell
 
-TELL = {"first": tell_first, "last": tell_last, "within": tell_within}
-SAYS = {"first": says_first, "last": says_last, "within": says_within}
 SAMPLES = [(letters, machine) for letters in ["a", "ba", "cab"] for machine in some_machines(71, 50, letters, 3)]
 
 
@@ -73,39 +71,11 @@ def within_by_hand(machine):
 
 
 class Told(Verdicts, unittest.TestCase):
-    tell = TELL
-    says = SAYS
-
     def by_hand(self, kind, machine):
         return within_by_hand(machine) if kind == "within" else sided_by_hand(machine, kind == "last")
 
-    def paper_looks_right(self, kind, machine, paper):
-        self.assertIs(type(paper), list if kind == "within" else tuple)
-        for words in [paper] if kind == "within" else paper:
-            self.assertIs(type(words), list)
-            self.assertTrue(all(type(word) is str for word in words))
 
-    def bar_looks_right(self, kind, machine, bar):
-        is_in = set_of(machine)
-        self.assertEqual(len(bar), 2 if kind == "within" else 4)
-        if kind == "within":
-            self.assertEqual(set(bar[0]), set(bar[1]))
-            self.assertEqual([is_in(word) for word in bar], [True, False])
-        for times in list(range(12)) + [40] if kind != "within" else []:
-            if kind == "first":
-                x, y, z, t = bar
-                one, two = x + y * times + z, x + y * times + t
-            else:
-                x, t, y, z = bar
-                one, two = x + y * times + z, t + y * times + z
-            self.assertNotEqual(y, "")
-            self.assertEqual([is_in(one), is_in(two)], [True, False], (kind, machine, bar, times))
-
-
-class EachKind(KindsAlike, Told):
-    samples = SAMPLES
-    papers = {"first": (["", "a"], ["b"]), "last": (["", "a"], ["b"]), "within": ["", "b"]}
-
+class EachKind(Told):
     def test_many_machines(self):
         for kind in ["first", "last"]:
             self.some_of_both(kind, [machine for letters, machine in SAMPLES])
@@ -114,7 +84,7 @@ class EachKind(KindsAlike, Told):
         self.some_of_both("within", some_machines(73, 40, "cab", 2))
 
     def test_every_machine_of_two_rooms(self):
-        for kind in TELL:
+        for kind in ["first", "last", "within"]:
             self.some_of_both(kind, every_machine_of_two_rooms("ba"))
 
     def test_machines_that_are_not_least_give_the_same_paper(self):
@@ -126,7 +96,7 @@ class EachKind(KindsAlike, Told):
                 for number, machine in enumerate(machines):
                     paper = self.of_the_kind(kind, machine)
                     self.assertEqual(self.of_the_kind(kind, loosened(machine, number)), paper)
-                    self.assertEqual(TELL[kind](least(machine)), (True, paper))
+                    self.assertEqual(tell(kind, least(machine)), (True, paper))
 
     def test_every_word_and_no_word(self):
         for letters in ["a", "ba", "cab"]:
@@ -143,11 +113,11 @@ class EachKind(KindsAlike, Told):
         for kind, machine in [("first", of("ba", "1|ab|b.*")), ("last", of("ba", "1|ab|.*bb")),
                               ("within", some_within(random.Random(3), "ba"))]:
             kept = (machine[0], tuple(machine[1]), tuple(machine[2]))
-            told = TELL[kind](machine)
-            again = TELL[kind](machine)
+            told = tell(kind, machine)
+            again = tell(kind, machine)
             for words in [told[1]] if kind == "within" else told[1]:
                 words.clear()
-            self.assertEqual(TELL[kind](machine), again)
+            self.assertEqual(tell(kind, machine), again)
             self.assertNotEqual(told, again)
             self.assertEqual(machine, kept)
 
@@ -207,9 +177,9 @@ class First(Told):
             shorter = [word for word in words_up_to(letters, 6)]
             row = in_a_row(letters, 8)
             for kind in ["first", "last"]:
-                self.assertEqual(TELL[kind](row), (True, ([], longest)))
-                self.assertEqual(TELL[kind](outside(row)), (True, (shorter, [])))
-                self.assertIs(SAYS[kind](letters, ([], longest), letters[0] * 1000), True)
+                self.assertEqual(tell(kind, row), (True, ([], longest)))
+                self.assertEqual(tell(kind, outside(row)), (True, (shorter, [])))
+                self.assertIs(says(kind, letters, ([], longest), letters[0] * 1000), True)
 
 
 class Last(Told):
@@ -252,7 +222,7 @@ class Last(Told):
             except TooMany:
                 continue
             for kind, other in [("first", "last"), ("last", "first")]:
-                one, two = TELL[kind](machine), TELL[other](about)
+                one, two = tell(kind, machine), tell(other, about)
                 self.assertIs(one[0], two[0], (kind, machine))
                 for words, more in zip(*[told[1] for told in (one, two)]) if one[0] else []:
                     self.assertEqual(sorted(word[::-1] for word in words), sorted(more))
@@ -288,8 +258,8 @@ class Within(Told):
     def test_the_letters_order(self):
         self.assertEqual(self.of_the_kind("within", of("ba", ".*a.*")), ["a", "ba"])
         self.assertEqual(self.of_the_kind("within", of("cab", ".*")), ["", "c", "a", "b", "ca", "cb", "ab", "cab"])
-        self.assertIs(says_within("cab", ["cb"], "bbcbc"), True)
-        self.assertIs(says_within("cab", ["cb"], "bbcbca"), False)
+        self.assertIs(says("within", "cab", ["cb"], "bbcbc"), True)
+        self.assertIs(says("within", "cab", ["cb"], "bbcbca"), False)
 
     def test_sets_that_are_not_of_the_kind(self):
         for text in ["a", "ab|ba", ".*ab.*", "(aa)*", ".*a", "a.*", ".*a.*a.*"]:
@@ -320,22 +290,22 @@ class Within(Told):
 
 class Papers(unittest.TestCase):
     def test_by_the_paper_alone(self):
-        self.assertIs(says_first("ab", (["", "ab"], ["b"]), "ab"), True)
-        self.assertIs(says_first("ab", (["", "ab"], ["b"]), "aba"), False)
-        self.assertIs(says_first("ab", (["", "ab"], ["b"]), "baaa"), True)
-        self.assertIs(says_first("ab", (["", "ab"], ["b"]), "aab"), False)
-        self.assertIs(says_last("ab", (["", "ba"], ["b"]), "ba"), True)
-        self.assertIs(says_last("ab", (["", "ba"], ["b"]), "aba"), False)
-        self.assertIs(says_last("ab", (["", "ba"], ["b"]), "aaab"), True)
-        self.assertIs(says_last("ab", (["", "ba"], ["b"]), "baa"), False)
-        self.assertIs(says_within("ab", [""], ""), True)
-        self.assertIs(says_within("ab", [""], "a"), False)
+        self.assertIs(says("first", "ab", (["", "ab"], ["b"]), "ab"), True)
+        self.assertIs(says("first", "ab", (["", "ab"], ["b"]), "aba"), False)
+        self.assertIs(says("first", "ab", (["", "ab"], ["b"]), "baaa"), True)
+        self.assertIs(says("first", "ab", (["", "ab"], ["b"]), "aab"), False)
+        self.assertIs(says("last", "ab", (["", "ba"], ["b"]), "ba"), True)
+        self.assertIs(says("last", "ab", (["", "ba"], ["b"]), "aba"), False)
+        self.assertIs(says("last", "ab", (["", "ba"], ["b"]), "aaab"), True)
+        self.assertIs(says("last", "ab", (["", "ba"], ["b"]), "baa"), False)
+        self.assertIs(says("within", "ab", [""], ""), True)
+        self.assertIs(says("within", "ab", [""], "a"), False)
 
     def test_long_words(self):
-        self.assertIs(says_first("ab", ([], ["ab"]), "ab" * 500), True)
-        self.assertIs(says_last("ab", ([], ["ab"]), "ba" * 500), False)
-        self.assertIs(says_within("abc", ["ac"], "ac" * 500), True)
-        self.assertIs(says_within("abc", ["ac"], "ac" * 499 + "b"), False)
+        self.assertIs(says("first", "ab", ([], ["ab"]), "ab" * 500), True)
+        self.assertIs(says("last", "ab", ([], ["ab"]), "ba" * 500), False)
+        self.assertIs(says("within", "abc", ["ac"], "ac" * 500), True)
+        self.assertIs(says("within", "abc", ["ac"], "ac" * 499 + "b"), False)
 
 
 

@@ -1,11 +1,11 @@
-"""Roads: rooms led on at once, ways back, words parted at last (what points 22 to 29 rest on)."""
+"""Roads: rooms led on at once, ways back, words parted at last (what points 22 to 30 rest on)."""
 
 import unittest
 
 from helper import circle, in_a_row, some_machines, walked, words_up_to
 from roomalgebra.least import least
 from roomalgebra.machines import made, takes
-from roomalgebra.roads import parted, walked_rooms, walked_turned, way_back
+from roomalgebra.roads import parted, road, walked_rooms, walked_turned, way_back
 
 SAMPLES = [(letters, machine) for letters in ["a", "ba", "cab"] for machine in some_machines(173, 30, letters, 4)]
 
@@ -46,6 +46,16 @@ class WaysBack(unittest.TestCase):
         self.assertEqual(way_back(walked_rooms(circle("ba", 5), [0, 2])), "baa")
         self.assertIs(way_back(walked_rooms(in_a_row("ba", 5), [1, 4])), None)
         self.assertEqual(way_back(walked_rooms(made("a", [[1], [0]], [True, False]), [0, 1])), "aa")
+
+
+class RoadsFromRoomToRoom(unittest.TestCase):
+    def test_the_first_word(self):
+        for letters, machine in SAMPLES:
+            words = list(words_up_to(letters, len(machine[1]) - 1))
+            for room in range(len(machine[1])):
+                for other in range(len(machine[1])):
+                    first = next((word for word in words if walked(machine[1], letters, room, word) == other), None)
+                    self.assertEqual(road(machine, room, other), first)
 
 
 class Parted(unittest.TestCase):

@@ -4,14 +4,13 @@ import itertools
 import random
 import unittest
 
-from helper import (KindsAlike, Verdicts, every_machine_of_two_rooms, in_a_row, in_place, loosened, of, set_of,
-                    some_machines, words_up_to)
+from helper import (Verdicts, every_machine_of_two_rooms, in_a_row, in_place, loosened, of, set_of, some_machines,
+                    words_up_to)
 from roomalgebra.least import least
 from roomalgebra.machines import made, room_after
-from roomalgebra.tallies import says_counts, says_tally, tell_counts, tell_tally
+from roomalgebra.tell import says, tell
 
-TELL = {"tally": tell_tally, "counts": tell_counts}
-SAYS = {"tally": says_tally, "counts": says_counts}
+KINDS = ["tally", "counts"]
 SAMPLES = [("a", machine) for machine in some_machines(113, 60, "a", 5)]
 SAMPLES += [("ba", machine) for machine in some_machines(127, 60, "ba", 3)]
 SAMPLES += [("cab", machine) for machine in some_machines(131, 30, "cab", 2)]
@@ -84,45 +83,20 @@ BY_HAND = {"tally": tally_by_hand, "counts": counts_by_hand}
 
 
 class Told(Verdicts, unittest.TestCase):
-    tell = TELL
-    says = SAYS
-
     def by_hand(self, kind, machine):
         return None if swaps_matter(machine) else BY_HAND[kind](machine)
 
-    def paper_looks_right(self, kind, machine, paper):
-        self.assertEqual([type(paper)] + [type(part) for part in paper], [tuple, list, list])
-        self.assertTrue(all(type(row) is (tuple if kind == "tally" else int) for row in paper[0]))
-        self.assertTrue(all(type(cell) is tuple and len(cell) == len(machine[0]) for cell in paper[1]))
-        for numbers in paper[1] + (paper[0] if kind == "tally" else []):
-            self.assertTrue(all(type(number) is int for number in numbers))
 
-    def bar_looks_right(self, kind, machine, bar):
-        is_in = set_of(machine)
-        if bar[0] == "swap":
-            self.assertEqual(len(bar), 3)
-            self.assertEqual(sorted(bar[1]), sorted(bar[2]))
-            self.assertEqual([is_in(word) for word in bar[1:]], [True, False], (kind, machine, bar))
-            return
-        self.assertEqual((kind, bar[0], len(bar)), ("counts", "stay", 4))
-        self.assertNotEqual(bar[2], "")
-        for times in list(range(1, 30)) + [60, 120]:
-            self.assertIsNot(is_in(bar[1] + bar[3]), is_in(bar[1] + bar[2] * times + bar[3]), (machine, bar, times))
-
-
-class EachKind(KindsAlike, Told):
-    samples = SAMPLES
-    papers = {"tally": ([(1, 2), (0, 1)], [(0, 0)]), "counts": ([3, 1], [(2, 0)])}
-
+class EachKind(Told):
     def test_many_machines(self):
-        for kind in TELL:
+        for kind in KINDS:
             told = [(letters, self.right(kind, machine)) for letters, machine in SAMPLES]
             for letters in ["ba", "cab"]:
                 self.assertIn((letters, True), told)
                 self.assertIn((letters, False), told)
 
     def test_every_machine_of_two_rooms(self):
-        for kind in TELL:
+        for kind in KINDS:
             self.some_of_both(kind, every_machine_of_two_rooms("ba"))
 
     def test_every_set_over_one_letter_is_of_the_kind_tally(self):
@@ -136,11 +110,11 @@ class EachKind(KindsAlike, Told):
                 machine = some_counting(chance, letters)
                 paper = self.of_the_kind("tally", machine)
                 self.assertEqual(self.of_the_kind("tally", loosened(machine, number)), paper)
-                self.assertEqual(tell_tally(least(machine)), (True, paper))
+                self.assertEqual(tell("tally", least(machine)), (True, paper))
                 machine = some_counting(chance, letters, 0)
                 paper = self.of_the_kind("counts", machine)
                 self.assertEqual(self.of_the_kind("counts", loosened(machine, number)), paper)
-                self.assertEqual(tell_counts(least(machine)), (True, paper))
+                self.assertEqual(tell("counts", least(machine)), (True, paper))
 
     def test_every_word_and_no_word(self):
         for letters in ["a", "ba", "cab"]:
@@ -155,11 +129,11 @@ class EachKind(KindsAlike, Told):
     def test_the_lists_are_the_askers_own_and_the_machine_stays(self):
         machine = counting("ba", [(0, 2), (0, 3)], lambda cell: cell in [(0, 0), (1, 2)])
         kept = (machine[0], tuple(machine[1]), tuple(machine[2]))
-        for kind in TELL:
-            told, again = TELL[kind](machine), TELL[kind](machine)
+        for kind in KINDS:
+            told, again = tell(kind, machine), tell(kind, machine)
             told[1][0].clear()
             told[1][1].clear()
-            self.assertEqual(TELL[kind](machine), again)
+            self.assertEqual(tell(kind, machine), again)
             self.assertNotEqual(told, again)
         self.assertEqual(machine, kept)
 
@@ -182,7 +156,7 @@ class Tally(Told):
     def test_a_letter_that_changes_nothing(self):
         told = self.of_the_kind("tally", of("cab", "c*(ac*bc*|bc*ac*)"))
         self.assertEqual(told, ([(0, 1), (2, 1), (2, 1)], [(0, 1, 1)]))
-        self.assertIs(says_tally("cab", told, "cccaccbc"), True)
+        self.assertIs(says("tally", "cab", told, "cccaccbc"), True)
 
     def test_the_table_in_rising_order(self):
         told = self.of_the_kind("tally", counting("cab", [(1, 1), (0, 2), (0, 2)], lambda cell: cell != (1, 1, 1)))
@@ -208,7 +182,7 @@ class Tally(Told):
         self.assertEqual(least(machine), machine)
         for one, two in itertools.combinations("cab", 2):
             self.assertEqual(room_after(machine, 0, one + two), room_after(machine, 0, two + one))
-        for kind in TELL:
+        for kind in KINDS:
             self.assertEqual(self.not_of_the_kind(kind, machine)[0], "swap")
 
     def test_many_machines_of_the_kind(self):
@@ -285,7 +259,7 @@ class Counts(Told):
                 paper = self.of_the_kind("counts", machine)
                 if len(machine[1]) <= 4:
                     self.assertIs(self.right("counts", machine), True)
-                self.assertEqual(tell_tally(machine), (True, ([(0, rest) for rest in paper[0]], paper[1])))
+                self.assertEqual(tell("tally", machine), (True, ([(0, rest) for rest in paper[0]], paper[1])))
 
     def test_each_set_of_the_kind_is_of_the_kind_tally(self):
         chance = random.Random(167)
@@ -293,25 +267,25 @@ class Counts(Told):
             for number in range(40):
                 machine = some_counting(chance, letters)
                 rows = self.of_the_kind("tally", machine)[0]
-                self.assertIs(tell_counts(machine)[0], all(low == 0 for low, rest in rows))
+                self.assertIs(tell("counts", machine)[0], all(low == 0 for low, rest in rows))
 
 
 class Papers(unittest.TestCase):
     def test_by_the_paper_alone(self):
         paper = ([(2, 3), (0, 1)], [(1, 0), (4, 0)])
-        told = [times for times in range(12) if says_tally("ab", paper, "ba" * times)]
+        told = [times for times in range(12) if says("tally", "ab", paper, "ba" * times)]
         self.assertEqual(told, [1, 4, 7, 10])
-        told = [times for times in range(12) if says_counts("ba", ([1, 3], [(0, 2)]), "ba" * times)]
+        told = [times for times in range(12) if says("counts", "ba", ([1, 3], [(0, 2)]), "ba" * times)]
         self.assertEqual(told, [2, 5, 8, 11])
 
     def test_the_rows_go_by_the_letters_order(self):
-        self.assertIs(says_tally("ba", ([(1, 1), (3, 1)], [(1, 2)]), "aba"), True)
-        self.assertIs(says_tally("ab", ([(1, 1), (3, 1)], [(1, 2)]), "aba"), False)
+        self.assertIs(says("tally", "ba", ([(1, 1), (3, 1)], [(1, 2)]), "aba"), True)
+        self.assertIs(says("tally", "ab", ([(1, 1), (3, 1)], [(1, 2)]), "aba"), False)
 
     def test_long_words(self):
-        self.assertIs(says_tally("ab", ([(0, 7), (1, 3)], [(3, 2)]), "ab" * 500), True)
-        self.assertIs(says_counts("ab", ([7, 3], [(3, 2)]), "ab" * 500), True)
-        self.assertIs(says_counts("ab", ([7, 3], [(3, 2)]), "ab" * 499), False)
+        self.assertIs(says("tally", "ab", ([(0, 7), (1, 3)], [(3, 2)]), "ab" * 500), True)
+        self.assertIs(says("counts", "ab", ([7, 3], [(3, 2)]), "ab" * 500), True)
+        self.assertIs(says("counts", "ab", ([7, 3], [(3, 2)]), "ab" * 499), False)
 
 
 
