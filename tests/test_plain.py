@@ -11,6 +11,7 @@ from roomalgebra.errors import TooGreat, TooMany
 from roomalgebra.joins import outside, turned
 from roomalgebra.least import least
 from roomalgebra.machines import made, takes
+from roomalgebra.pieces import rows_of_word
 from roomalgebra.tell import says, tell
 
 SAMPLES = [machine for letters, many in [("a", 30), ("ba", 80), ("cab", 30)]
@@ -254,6 +255,38 @@ class MoreThanForty(Told):
         for machine in FORTY_ONE + [ALL_ACTS]:
             for kind in ["first", "last", "within", "tally", "counts", "onward"]:
                 self.right_either_way(kind, machine)
+
+
+class RowsByHand(unittest.TestCase):
+    """Nothing is promised of papers that were not told; but what reads them goes by the words of the document alone."""
+
+    def right(self, letters, rows, longest):
+        for number in range(len(rows)):
+            reads = READERS["plain"](letters, (rows, [number]))
+            for word in words_up_to(letters, longest):
+                self.assertIs(number in rows_of_word(rows, word), reads(word), (rows, number, word))
+
+    def test_each_part_by_itself(self):
+        letters = "ab"
+        nothing = (None, None, "ab", [])
+        for row in [([(0, "a")], None, "", []), (None, [("b", 0)], "", []), (None, None, "b", []),
+                    (None, None, "", [("a", 0, "a")]), ([], None, "", []), (None, [], "", []),
+                    ([(1, "a"), (0, "b")], None, "", []), (None, [("b", 1), ("a", 0)], "", [])]:
+            self.right(letters, [nothing, (None, None, "", []), row], 5)
+
+    def test_rows_of_which_a_word_is_of_several_or_of_none(self):
+        chance = random.Random(269)
+        for number in range(60):
+            letters = chance.choice(["ba", "cab"])
+            rows = []
+            for place in range(5):
+                earlier = list(range(place))
+                begins, ends, shuts = [[[chance.choice(earlier), chance.choice(letters), chance.choice(letters)]
+                                        for name in range(chance.randrange(3))] if earlier else [] for part in range(3)]
+                rows.append((chance.choice([None, [(i, a) for i, a, b in begins]]),
+                             chance.choice([None, [(a, i) for i, a, b in ends]]),
+                             chance.choice(["", "", letters[0], letters]), [(a, i, b) for i, a, b in shuts]))
+            self.right(letters, rows, 5 if letters == "ba" else 4)
 
 
 class Papers(unittest.TestCase):
